@@ -57,7 +57,8 @@ class Contract(unittest.TestCase):
         self.assertEqual(last(*rows, CONTRACT), [0, bid("2C"), 0, 0, 1, 2])
 
     def test_behind_calls_out_of_turn(self):
-        rows = [deal(0), call(3, "1H"), decide(1), call(0, "P"), call(1, "4H"), call(2, "P"), call(3, "P"), call(0, "P")]
+        rows = [deal(0), call(3, "1H"), decide(1), call(0, "P"), call(1, "4H")]
+        rows += [call(seat, "P") for seat in (2, 3, 0)]
         self.assertEqual(last(*rows, CONTRACT), [0, bid("4H"), 0, 3, 0, 1])
 
     def test_undone(self):

@@ -2,9 +2,8 @@
 
 import unittest
 
-from tests.asking import CONTRACT, LEGALS, TABLE, WAYS, ask, auction, board, call, deal, decide, last, told, undo
-
-FAR = 1000000000000000000
+from tests.asking import (CONTRACT, FAR, LEGALS, LONGEST, MADE, NUMBER, TABLE, TEXT, WAYS, ask, auction, board, call,
+                          deal, decide, last, told, undo)
 
 
 class Deal(unittest.TestCase):
@@ -64,12 +63,14 @@ class Board(unittest.TestCase):
 class NoAuction(unittest.TestCase):
 
     def test_refused(self):
-        for row in (call(0, "P"), decide(0), decide(1), undo(0), undo(400), TABLE, LEGALS, CONTRACT, WAYS):
+        for row in (call(0, "P"), decide(0), decide(1), undo(0), undo(400), TABLE, LEGALS, CONTRACT, WAYS, LONGEST,
+                    NUMBER, TEXT, MADE, (16, 0, 0), (16, 1, 4)):
             self.assertEqual(ask(row), [[-3]])
 
     def test_range_is_asked_first(self):
         wrong = [(2, -1, 0), (2, 4, 0), (2, 0, -1), (2, 0, 38), (2, FAR, 0), (2, 0, -FAR),
-                 (3, -1), (3, 2), (3, FAR), (4, -1), (4, 401), (4, -FAR)]
+                 (3, -1), (3, 2), (3, FAR), (4, -1), (4, 401), (4, -FAR), (16, -1, 0), (16, 2, 0),
+                 (16, 0, -1), (16, 0, 5)]
         for row in wrong:
             self.assertEqual(ask(row), [[-1]])
             self.assertEqual(last(*auction(0, "P P P P"), row), [-1])

@@ -2,12 +2,7 @@
 
 import unittest
 
-from tests.asking import LEGALS, WAYS, auction, call, deal, decide, last, undo, ways
-
-
-def above(bids):
-    """The ways that begin with one of so many highest bids: 7 behind the highest, 22 times as many for each below."""
-    return (22 ** bids - 1) // 3
+from tests.asking import LEGALS, WAYS, above, auction, begun_auctions, call, deal, decide, last, undo, ways
 
 
 class Ways(unittest.TestCase):
@@ -89,11 +84,7 @@ class Ways(unittest.TestCase):
         self.assertEqual(ways(*auction(0, "7S"), call(1, "1C"), undo(1)), 154)
 
     def test_sum_of_the_ways_behind_each_call(self):
-        begun = [auction(0, text) for text in ("", "P P", "1C", "6S P", "7H P P", "7D X", "7D X P", "7D X P P", "7C X XX")]
-        begun.append(auction(0, "7H P") + [call(3, "P"), decide(1)])
-        begun.append(auction(0, "7H X P") + [call(0, "P"), decide(1)])
-        begun.append(auction(0, "7H") + [call(1, "6H"), decide(1), call(3, "P"), decide(1)])
-        for rows in begun:
+        for rows in begun_auctions():
             turn = last(*rows, (5,))[1]
             behind = [ways(*rows, (2, turn, c)) for c in last(*rows, LEGALS)[1:]]
             self.assertEqual(ways(*rows), sum(behind))
